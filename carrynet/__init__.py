@@ -1,0 +1,1 @@
+"""Counters that carry into one another."""

@@ -1,0 +1,80 @@
+"""The examples of the document, word for word."""
+
+import unittest
+
+from carrynet import errors
+
+EXAMPLES = r"""
+>>> from carrynet.nets import validate_net
+>>> validate_net(((4, 6), ((1, 0, 3),), (0,)))
+raises InvalidNet('wires', 0)
+
+>>> from carrynet.nets import make_net
+>>> make_net(4, 6, wires=((0, 1, 3),), inputs=(0,))
+((4, 6), ((0, 1, 3),), (0,))
+
+>>> from carrynet.nets import make_net
+>>> make_net(2, 2, 5)
+((2, 2, 5), (), (0, 1, 2))
+
+>>> from carrynet.nets import chain
+>>> chain(10, 10, 10)
+((10, 10, 10), ((0, 1, 1), (1, 2, 1)), (0,))
+
+>>> from carrynet.nets import joined
+>>> joined(((4, 6), ((0, 1, 3),), (0,)), ((5,), (), (0,)))
+((4, 6, 5), ((0, 1, 3),), (0, 2))
+
+>>> from carrynet.nets import validate_phases
+>>> validate_phases(((4, 6), ((0, 1, 3),), (0,)), (3, 6))
+raises InvalidPhases(1)
+
+>>> from carrynet.ticks import after, arrivals, carries
+>>> net = ((4, 6), ((0, 1, 3),), (0,))
+>>> (arrivals(net, (0, 0), (10, 0)), carries(net, (0, 0), (10, 0)), after(net, (0, 0), (10, 0)))
+((10, 6), (2, 1), (2, 0))
+
+>>> from carrynet.ticks import after, carries
+>>> net = ((4, 6), ((0, 1, 3),), (0,))
+>>> (after(net, (3, 5), (-4, 0)), carries(net, (3, 5), (-4, 0)))
+((3, 2), (-1, 0))
+
+>>> from carrynet.ticks import after
+>>> after(((2, 3), ((0, 1, -1),), (0,)), (0, 0), (2, 0))
+(0, 2)
+
+>>> from carrynet.ticks import vector_of
+>>> vector_of(((2, 2), ((0, 1, 1),), (0, 1)), 1, 0, 1, times=-3)
+(-3, -6)
+
+>>> from carrynet.ticks import vector_of_walk
+>>> vector_of_walk(((4, 6), ((0, 1, 3),), (0,)), ((0, 1), (0, 1), (0, -1)))
+(1, 0)
+"""
+
+
+def run(example):
+    """The result of the last line of an example, or its error, and what the document tells of it."""
+    lines = example.strip().split("\n")
+    sources = [line.removeprefix(">>> ") for line in lines if line.startswith(">>> ")]
+    names = {}
+    exec("\n".join(sources[:-1]), names)
+    try:
+        return (repr(eval(sources[-1], names)), lines[-1])
+    except (errors.CarryError, errors.CarryStateError) as error:
+        fields = ", ".join(repr(field) for field in vars(error).values())
+        return (f"raises {type(error).__name__}({fields})", lines[-1])
+
+
+class Examples(unittest.TestCase):
+    def test_each_example(self):
+        examples = EXAMPLES.strip().split("\n\n")
+        self.assertEqual(len(examples), 11)
+        for example in examples:
+            with self.subTest(example):
+                result, wanted = run(example)
+                self.assertEqual(result, wanted)
+
+
+if __name__ == "__main__":
+    unittest.main()

@@ -1,0 +1,179 @@
+"""The general rules: 2.1, 2.2, 2.5, 2.6, 2.8, and where the interface is defined."""
+
+import ast
+import inspect
+import pathlib
+import unittest
+
+import carrynet
+from carrynet import errors, nets, ticks
+from tests.helpers import A, not_integers
+
+SIGNATURES = {
+    nets: {
+        "validate_net": "(net)",
+        "is_net": "(value)",
+        "make_net": "(*moduli, wires=(), inputs=None)",
+        "chain": "(*moduli, weight=1)",
+        "opened": "(net)",
+        "joined": "(*nets)",
+        "state_count": "(net)",
+        "validate_phases": "(net, phases)",
+        "is_state": "(net, value)",
+    },
+    ticks: {
+        "arrivals": "(net, phases, ticks)",
+        "carries": "(net, phases, ticks)",
+        "after": "(net, phases, ticks)",
+        "vector_of": "(net, *counters, times=1)",
+        "total_of": "(net, *vectors)",
+        "vector_of_walk": "(net, walk)",
+    },
+}
+# What each function is called with in the tests below; all of them succeed.
+CALLS = (
+    (nets.validate_net, (A,), {}),
+    (nets.is_net, (A,), {}),
+    (nets.make_net, (4, 6), {"wires": ((0, 1, 3),), "inputs": (0,)}),
+    (nets.chain, (4, 6), {"weight": 3}),
+    (nets.opened, (A,), {}),
+    (nets.joined, (A, A), {}),
+    (nets.state_count, (A,), {}),
+    (nets.validate_phases, (A, (3, 5)), {}),
+    (nets.is_state, (A, (3, 6)), {}),
+    (ticks.arrivals, (A, (3, 5), (7, 0)), {}),
+    (ticks.carries, (A, (3, 5), (7, 0)), {}),
+    (ticks.after, (A, (3, 5), (7, 0)), {}),
+    (ticks.vector_of, (A, 0, 0), {"times": -2}),
+    (ticks.total_of, (A, (1, 0), (2, 0)), {}),
+    (ticks.vector_of_walk, (A, ((0, 1), (0, -1))), {}),
+)
+PACKAGE = pathlib.Path(carrynet.__file__).parent
+# Modules of the library that neither tell the time nor read or draw anything.
+HARMLESS = ("carrynet", "math", "itertools", "heapq", "collections")
+
+
+def kinds(value):
+    """The kinds of a value and of all that it holds."""
+    if isinstance(value, tuple):
+        return (type(value), *[kinds(item) for item in value])
+    return type(value)
+
+
+def as_written(value):
+    """The same value of tuples, integers, True, False and None only, built anew."""
+    if type(value) is tuple:
+        return tuple(as_written(item) for item in value)
+    return value if value is None or type(value) is bool else int(str(value))
+
+
+class Interface(unittest.TestCase):
+    def test_signatures(self):
+        for module, functions in SIGNATURES.items():
+            for name, signature in functions.items():
+                self.assertEqual(str(inspect.signature(getattr(module, name))), signature, name)
+
+    def test_each_function_is_defined_in_its_file(self):
+        for module, functions in SIGNATURES.items():
+            for name in functions:
+                self.assertEqual(getattr(module, name).__module__, module.__name__, name)
+
+    def test_each_function_is_called_below(self):
+        called = [function.__name__ for function, _, _ in CALLS]
+        self.assertEqual(called, [name for functions in SIGNATURES.values() for name in functions])
+
+
+class Calls(unittest.TestCase):
+    def test_equal_calls_have_equal_results(self):
+        for function, arguments, named in CALLS:
+            first = function(*arguments, **named)
+            second = function(*as_written(arguments), **{name: as_written(item) for name, item in named.items()})
+            self.assertEqual(first, second, function)
+            self.assertEqual(kinds(first), kinds(second), function)
+
+    def test_results_hold_tuples_and_integers_only(self):
+        for function, arguments, named in CALLS:
+            result = function(*arguments, **named)
+            self.assertEqual(repr(result), repr(as_written(result)), function)
+
+    def test_arguments_are_not_changed(self):
+        for function, arguments, named in CALLS:
+            before = repr((arguments, named))
+            function(*arguments, **named)
+            self.assertEqual(repr((arguments, named)), before, function)
+
+    def test_the_fields_of_raised_errors_are_the_very_arguments(self):
+        for value in not_integers():
+            with self.assertRaises(errors.InvalidCounter) as caught:
+                ticks.vector_of(A, 0, value)
+            self.assertIs(caught.exception.counter, value)
+            with self.assertRaises(errors.InvalidTimes) as caught:
+                ticks.vector_of(A, 0, times=value)
+            self.assertIs(caught.exception.times, value)
+
+
+class Kinds(unittest.TestCase):
+    def test_true_and_false_are_no_integers(self):
+        self.assertIs(nets.is_net(((2, 2), ((0, 1, True),), ())), False)
+        self.assertIs(nets.is_net(((2, 2), (), (False,))), False)
+        self.assertIs(nets.is_state(A, (True, 0)), False)
+        for function in (ticks.arrivals, ticks.carries, ticks.after):
+            with self.assertRaises(errors.InvalidTicks):
+                function(A, (0, 0), (True, 0))
+            with self.assertRaises(errors.InvalidTicks):
+                function(A, (0, 0), (0, False))
+
+    def test_a_list_is_not_a_tuple(self):
+        self.assertIs(nets.is_net(list(A)), False)
+        self.assertIs(nets.is_net((list(A[0]), *A[1:])), False)
+        self.assertIs(nets.is_state(A, [0, 0]), False)
+
+    def test_quotients_and_remainders_of_negative_numbers(self):
+        single = ((4,), (), (0,))
+        wanted = {-1: (-1, 3), -3: (-1, 1), -4: (-1, 0), -5: (-2, 3), -8: (-2, 0), 3: (0, 3), 4: (1, 0)}
+        for entry, (quotient, rest) in wanted.items():
+            self.assertEqual(ticks.carries(single, (0,), (entry,)), (quotient,))
+            self.assertEqual(ticks.after(single, (0,), (entry,)), (rest,))
+
+
+class Sources(unittest.TestCase):
+    """2.6: no clocks, random numbers, files or floating-point numbers."""
+
+    def trees(self):
+        files = sorted(PACKAGE.glob("**/*.py"))
+        self.assertIn(PACKAGE / "ticks.py", files)
+        for file in files:
+            yield file.name, ast.parse(file.read_text(encoding="ascii"))
+
+    def test_imports(self):
+        for name, tree in self.trees():
+            for node in ast.walk(tree):
+                self.assertNotIsInstance(node, ast.Import, name)
+                if isinstance(node, ast.ImportFrom):
+                    self.assertIn(node.module.split(".")[0], HARMLESS, name)
+
+    def test_no_floating_point_numbers(self):
+        for name, tree in self.trees():
+            for node in ast.walk(tree):
+                self.assertNotIsInstance(node, ast.Div, name)
+                self.assertFalse(isinstance(node, ast.Constant) and isinstance(node.value, (float, complex)), name)
+                self.assertFalse(isinstance(node, ast.Name) and node.id in ("float", "complex", "round"), name)
+
+    def test_no_files(self):
+        barred = ("open", "input", "print", "exec", "eval", "compile", "breakpoint", "id", "hash")
+        for name, tree in self.trees():
+            for node in ast.walk(tree):
+                self.assertFalse(isinstance(node, ast.Name) and node.id in barred, name)
+
+    def test_sizes(self):
+        for file in sorted(PACKAGE.glob("**/*.py")):
+            lines = file.read_text(encoding="ascii").split("\n")
+            self.assertLessEqual(len(lines), 400, file)
+            self.assertLessEqual(max(len(line) for line in lines), 120, file)
+            for node in ast.walk(ast.parse("\n".join(lines))):
+                if isinstance(node, ast.FunctionDef):
+                    self.assertLessEqual(node.end_lineno - node.lineno, 39, (file, node.name))
+
+
+if __name__ == "__main__":
+    unittest.main()
