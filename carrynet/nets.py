@@ -168,11 +168,16 @@ def phases_fault(net, value):
     return None
 
 
-def validate_phases(net, phases):
-    validate_net(net)
-    fault = phases_fault(net, phases)
+def check_phases(net, value):
+    """Refuse what is not a state of the net."""
+    fault = phases_fault(net, value)
     if fault is not None:
         raise InvalidPhases(fault[0])
+
+
+def validate_phases(net, phases):
+    validate_net(net)
+    check_phases(net, phases)
 
 
 def is_state(net, value):

@@ -123,11 +123,16 @@ def total_of(net, *vectors):
     return tuple(totals)
 
 
+def total_of_steps(net, steps):
+    """The steps at each input, with their signs; the net and the steps are right."""
+    vector = [0] * len(net[0])
+    for counter, sign in steps:
+        vector[counter] += sign
+    return tuple(vector)
+
+
 def vector_of_walk(net, walk):
     """The tick vector with the steps of the walk at each input, with their signs."""
     validate_net(net)
     check_walk(net, walk)
-    vector = [0] * len(net[0])
-    for counter, sign in walk:
-        vector[counter] += sign
-    return tuple(vector)
+    return total_of_steps(net, walk)

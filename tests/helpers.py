@@ -1,4 +1,6 @@
-"""What the tests share: values of wrong kinds, caught errors, and ticks made one by one."""
+"""What the tests share: values of wrong kinds, caught errors, ticks made one by one, and listed states."""
+
+import itertools
 
 A = ((4, 6), ((0, 1, 3),), (0,))
 TEN = ((2,) * 10, (), ())
@@ -81,3 +83,47 @@ def steps_of(vector):
     for counter, entry in enumerate(vector):
         steps.extend([(counter, 1 if entry > 0 else -1)] * abs(entry))
     return steps
+
+
+def leap(net, state, vector):
+    """The state after ticks of any size at any counters, and the carries, as 4.5 describes them."""
+    moduli, wires, _ = net
+    carried = []
+    after = []
+    for counter, modulus in enumerate(moduli):
+        arrived = vector[counter] + sum(w * carried[u] for u, v, w in wires if v == counter)
+        carried.append((state[counter] + arrived) // modulus)
+        after.append((state[counter] + arrived) % modulus)
+    return (tuple(after), tuple(carried))
+
+
+def unit(net, counter, entry=1):
+    return tuple(entry if index == counter else 0 for index in range(len(net[0])))
+
+
+def scaled(vector, times):
+    return tuple(entry * times for entry in vector)
+
+
+def total(one, other):
+    return tuple(first + second for first, second in zip(one, other))
+
+
+def all_states(net):
+    return list(itertools.product(*[range(modulus) for modulus in net[0]]))
+
+
+def searched(net, state):
+    """The states that a state reaches, in the order of `reached`, by single ticks."""
+    found = [state]
+    for known in found:
+        for counter in net[2]:
+            following = tick_by_tick(net, known, ((counter, 1),))[2]
+            if following not in found:
+                found.append(following)
+    return found
+
+
+def first_of(generator, *arguments, **named):
+    """The first result of a generator, or None if it has none."""
+    return next(iter(generator(*arguments, **named)), None)

@@ -50,6 +50,90 @@ raises InvalidPhases(1)
 >>> from carrynet.ticks import vector_of_walk
 >>> vector_of_walk(((4, 6), ((0, 1, 3),), (0,)), ((0, 1), (0, 1), (0, -1)))
 (1, 0)
+
+>>> from carrynet.events import events
+>>> list(events(((4, 6), ((0, 1, 3),), (0,)), (3, 5), ((0, 1), (0, 1), (0, -1))))
+[(0, 0, 1), (0, 1, 1)]
+
+>>> from carrynet.events import states_along
+>>> list(states_along(((4, 6), ((0, 1, 3),), (0,)), (3, 5), ((0, 1), (0, 1), (0, -1))))
+[(0, 2), (1, 2), (0, 2)]
+
+>>> from carrynet.events import reached
+>>> list(reached(((4, 6), ((0, 1, 3),), (0,)), (0, 0)))
+[(0, 0), (1, 0), (2, 0), (3, 0), (0, 3), (1, 3), (2, 3), (3, 3)]
+
+>>> from carrynet.lattice import restores
+>>> (restores(((4, 6), ((0, 1, 3),), (0,)), (8, 0)), restores(((4, 6), ((0, 1, 3),), (0,)), (4, 0)))
+(True, False)
+
+>>> from carrynet.lattice import basis
+>>> (basis(((4, 6), ((0, 1, 3),), (0,))), basis(((2, 2), ((0, 1, 1),), (0, 1))))
+(((8, 0),), ((2, 1), (0, 2)))
+
+>>> from carrynet.lattice import remainder
+>>> (remainder(((4, 6), ((0, 1, 3),), (0,)), (19, 0)), remainder(((4, 6), ((0, 1, 3),), (0,)), (-1, 0)))
+((3, 0), (7, 0))
+
+>>> from carrynet.lattice import class_count, reached_count
+>>> (reached_count(((4, 6), ((0, 1, 3),), (0,))), class_count(((4, 6), ((0, 1, 3),), (0,))))
+(8, 3)
+
+>>> from carrynet.lattice import order_of
+>>> order_of(((4, 6), ((0, 1, 3),), (0,)), (6, 0))
+4
+
+>>> from carrynet.reaching import difference
+>>> difference(((4, 6), ((0, 1, 3),), (0,)), (3, 5), (1, 0))
+(2, 4)
+
+>>> from carrynet.reaching import value_of
+>>> value_of(((4, 6), ((0, 1, 3),), (0,)), (2, 5), ((0, 1), 3))
+2
+
+>>> from carrynet.reaching import invariants
+>>> invariants(((4, 6), ((0, 1, 3),), (0,)))
+(((0, 1), 3),)
+
+>>> from carrynet.reaching import way
+>>> net = ((4, 6), ((0, 1, 3),), (0,))
+>>> (way(net, (0, 0), (1, 3)), way(net, (0, 0), (0, 1)))
+(('ticks', (5, 0)), ('invariant', ((0, 1), 3)))
+
+>>> from carrynet.reaching import check_way
+>>> check_way(((4, 6), ((0, 1, 3),), (0,)), (0, 0), (1, 3), ("ticks", (-3, 0)))
+'ticks'
+
+>>> from carrynet.machines import Machine
+>>> machine = Machine.made(4, 6, wires=((0, 1, 3),), inputs=(0,))
+>>> first = machine.rehearse(((0,), 10), ((0, 0), -1))
+>>> second = machine.tick(0, 0, times=5)
+>>> (first, second, machine.phases, machine.carried)
+((((2, 0), (2, 1)), ((0, 0), (0, 0))), (2, 1), (2, 0), (2, 1))
+
+>>> from carrynet.machines import Machine
+>>> Machine(((4, 6), ((0, 1, 3),), (0,))).tick(1)
+raises NotAnInput(1)
+
+>>> from carrynet.machines import Machine
+>>> machine = Machine(((4, 6), ((0, 1, 3),), (0,)))
+>>> machine.phases = (3, 4)
+>>> (machine.tick(0), machine.phases, machine.tick())
+((1, 1), (0, 1), (0, 0))
+
+>>> from carrynet.machines import Recorder
+>>> recorder = Recorder(((4, 6), ((0, 1, 3),), (0,)), phases=(3, 5))
+>>> first = recorder.tick(0)
+>>> second = recorder.tick(0, times=7)
+>>> last = recorder.undo(count=2)
+>>> (first, second, recorder.phases, recorder.carried, recorder.history)
+((1, 1), (1, 0), (3, 5), (0, 0), ())
+
+>>> from carrynet.machines import Odometer
+>>> odometer = Odometer(10, 10, 10, reading=995)
+>>> rounds = odometer.advance(7)
+>>> (rounds, odometer.reading, odometer.phases)
+(1, 2, (2, 0, 0))
 """
 
 
@@ -69,7 +153,7 @@ def run(example):
 class Examples(unittest.TestCase):
     def test_each_example(self):
         examples = EXAMPLES.strip().split("\n\n")
-        self.assertEqual(len(examples), 11)
+        self.assertEqual(len(examples), 29)
         for example in examples:
             with self.subTest(example):
                 result, wanted = run(example)

@@ -6,7 +6,7 @@ import pathlib
 import unittest
 
 import carrynet
-from carrynet import errors, nets, ticks
+from carrynet import errors, events, lattice, nets, reaching, ticks
 from tests.helpers import A, not_integers
 
 SIGNATURES = {
@@ -29,6 +29,28 @@ SIGNATURES = {
         "total_of": "(net, *vectors)",
         "vector_of_walk": "(net, walk)",
     },
+    lattice: {
+        "restores": "(net, vector)",
+        "basis": "(net)",
+        "remainder": "(net, vector)",
+        "are_alike": "(net, vector, other)",
+        "reached_count": "(net)",
+        "class_count": "(net)",
+        "order_of": "(net, vector)",
+    },
+    events: {
+        "events": "(net, phases, walk)",
+        "states_along": "(net, phases, walk)",
+        "reached": "(net, phases)",
+    },
+    reaching: {
+        "difference": "(net, start, goal)",
+        "is_invariant": "(net, value)",
+        "value_of": "(net, phases, invariant)",
+        "invariants": "(net)",
+        "way": "(net, start, goal)",
+        "check_way": "(net, start, goal, answer)",
+    },
 }
 # What each function is called with in the tests below; all of them succeed.
 CALLS = (
@@ -47,6 +69,22 @@ CALLS = (
     (ticks.vector_of, (A, 0, 0), {"times": -2}),
     (ticks.total_of, (A, (1, 0), (2, 0)), {}),
     (ticks.vector_of_walk, (A, ((0, 1), (0, -1))), {}),
+    (lattice.restores, (A, (8, 0)), {}),
+    (lattice.basis, (nets.opened(A),), {}),
+    (lattice.remainder, (A, (-1, 0)), {}),
+    (lattice.are_alike, (A, (-1, 0), (7, 0)), {}),
+    (lattice.reached_count, (A,), {}),
+    (lattice.class_count, (A,), {}),
+    (lattice.order_of, (A, (6, 0)), {}),
+    (events.events, (A, (3, 5), ((0, 1), (0, -1))), {}),
+    (events.states_along, (A, (3, 5), ((0, 1), (0, -1))), {}),
+    (events.reached, (A, (3, 5)), {}),
+    (reaching.difference, (A, (3, 5), (1, 0)), {}),
+    (reaching.is_invariant, (A, ((0, 1), 3)), {}),
+    (reaching.value_of, (A, (2, 5), ((0, 1), 3)), {}),
+    (reaching.invariants, (A,), {}),
+    (reaching.way, (A, (0, 0), (1, 3)), {}),
+    (reaching.check_way, (A, (0, 0), (0, 1), ("invariant", ((0, 1), 3))), {}),
 )
 PACKAGE = pathlib.Path(carrynet.__file__).parent
 # Modules of the library that neither tell the time nor read or draw anything.
@@ -61,10 +99,16 @@ def kinds(value):
 
 
 def as_written(value):
-    """The same value of tuples, integers, True, False and None only, built anew."""
+    """The same value of tuples, integers, strings, True, False and None only, built anew."""
     if type(value) is tuple:
         return tuple(as_written(item) for item in value)
-    return value if value is None or type(value) is bool else int(str(value))
+    return value if value is None or type(value) in (bool, str) else int(str(value))
+
+
+def result_of(function, arguments, named):
+    """What the call returns, or all that it yields."""
+    result = function(*arguments, **named)
+    return tuple(result) if inspect.isgenerator(result) else result
 
 
 class Interface(unittest.TestCase):
@@ -86,20 +130,20 @@ class Interface(unittest.TestCase):
 class Calls(unittest.TestCase):
     def test_equal_calls_have_equal_results(self):
         for function, arguments, named in CALLS:
-            first = function(*arguments, **named)
-            second = function(*as_written(arguments), **{name: as_written(item) for name, item in named.items()})
+            first = result_of(function, arguments, named)
+            second = result_of(function, as_written(arguments), {name: as_written(named[name]) for name in named})
             self.assertEqual(first, second, function)
             self.assertEqual(kinds(first), kinds(second), function)
 
-    def test_results_hold_tuples_and_integers_only(self):
+    def test_results_hold_tuples_integers_and_strings_only(self):
         for function, arguments, named in CALLS:
-            result = function(*arguments, **named)
+            result = result_of(function, arguments, named)
             self.assertEqual(repr(result), repr(as_written(result)), function)
 
     def test_arguments_are_not_changed(self):
         for function, arguments, named in CALLS:
             before = repr((arguments, named))
-            function(*arguments, **named)
+            result_of(function, arguments, named)
             self.assertEqual(repr((arguments, named)), before, function)
 
     def test_the_fields_of_raised_errors_are_the_very_arguments(self):
