@@ -14,6 +14,12 @@ def validate_start(net, phases, walk):
     check_walk(net, walk)
 
 
+def check_reached(net):
+    """Refuse a net in which a state reaches too many states to list them."""
+    if reached_count(net) > MOST_REACHED:
+        raise TooLarge(MOST_REACHED)
+
+
 def events(net, phases, walk):
     """The carries in each step that are not 0, as (number of the step, counter, carries)."""
     validate_start(net, phases, walk)
@@ -37,8 +43,7 @@ def states_along(net, phases, walk):
 def reached(net, phases):
     """Every state that the phases reach, once, beginning with themselves."""
     validate_phases(net, phases)
-    if reached_count(net) > MOST_REACHED:
-        raise TooLarge(MOST_REACHED)
+    check_reached(net)
     yield phases
     found = [phases]
     seen = {phases}

@@ -58,3 +58,9 @@ def large_nets(seed, many):
 
 def with_inputs(net, inputs):
     return (*net[:2], inputs)
+
+
+def positive(net):
+    """The same net with positive weights, and with all counters as inputs."""
+    moduli, wires, _ = net
+    return (moduli, tuple((u, v, abs(w)) for u, v, w in wires), tuple(range(len(moduli))))

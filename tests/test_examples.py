@@ -134,6 +134,48 @@ raises NotAnInput(1)
 >>> rounds = odometer.advance(7)
 >>> (rounds, odometer.reading, odometer.phases)
 (1, 2, (2, 0, 0))
+
+>>> from carrynet.rates import carry_range, gains, offset_of, rate_of, spread
+>>> net = ((4, 6), ((0, 1, 3),), (0,))
+>>> (gains(net, 1), gains(net, 0), spread(net, 1))
+(((1, 8), (1, 6)), ((1, 4), (0, 1)), (29, 24))
+
+>>> from carrynet.rates import carry_range, offset_of, rate_of
+>>> net = ((4, 6), ((0, 1, 3),), (0,))
+>>> (rate_of(net, (10, 0), 1), offset_of(net, (2, 0), 1), carry_range(net, (10, 0), 1))
+((5, 4), (1, 4), (1, 2))
+
+>>> from carrynet.rates import gains
+>>> gains(((2, 3), ((0, 1, -1),), (0,)), 1)
+((-1, 6), (1, 3))
+
+>>> from carrynet.forecasts import forecast
+>>> net = ((4, 6), ((0, 1, 3),), (0,))
+>>> (forecast(net, (0, 0), 0, 1), forecast(net, (3, 5), 0, 1), forecast(net, (0, 0), 0, 1, count=2))
+(8, 1, 16)
+
+>>> from carrynet.forecasts import carry_ticks
+>>> list(carry_ticks(((2, 3), ((0, 1, 7),), (0,)), (0, 0), 0, 1, last=7))
+[(2, 2), (4, 2), (6, 3)]
+
+>>> from carrynet.forecasts import arrival, first_to_carry
+>>> net = ((4, 6), ((0, 1, 3),), (0,))
+>>> (first_to_carry(net, (0, 0), 0), first_to_carry(net, (0, 0), 0, 1), arrival(net, (0, 0), (1, 3), 0), arrival(net, (0, 0), (0, 1), 0))
+((4, (0,)), (8, (1,)), 5, None)
+
+>>> from carrynet.ways import cheapest_way, radius
+>>> net = ((4, 6), ((0, 1, 3),), (0,))
+>>> (cheapest_way(net, (0, 0), (1, 3)), cheapest_way(net, (0, 0), (0, 3)), cheapest_way(net, (0, 0), (0, 1)), radius(net))
+((-3, 0), (-4, 0), None, 4)
+
+>>> from carrynet.ways import cheapest_way
+>>> net = ((2, 2), ((0, 1, 1),), (0, 1))
+>>> (cheapest_way(net, (0, 0), (0, 1)), cheapest_way(net, (0, 0), (0, 1), 1, 5))
+((0, -1), (-2, 0))
+
+>>> from carrynet.ways import shells
+>>> list(shells(((4, 6), ((0, 1, 3),), (0,)), (0, 0)))
+[((0, 0),), ((1, 0), (3, 3)), ((2, 0), (2, 3)), ((1, 3), (3, 0)), ((0, 3),)]
 """
 
 
@@ -153,7 +195,7 @@ def run(example):
 class Examples(unittest.TestCase):
     def test_each_example(self):
         examples = EXAMPLES.strip().split("\n\n")
-        self.assertEqual(len(examples), 29)
+        self.assertEqual(len(examples), 38)
         for example in examples:
             with self.subTest(example):
                 result, wanted = run(example)

@@ -6,7 +6,7 @@ import pathlib
 import unittest
 
 import carrynet
-from carrynet import errors, events, lattice, nets, reaching, ticks
+from carrynet import errors, events, forecasts, lattice, nets, rates, reaching, ticks, ways
 from tests.helpers import A, not_integers
 
 SIGNATURES = {
@@ -51,6 +51,24 @@ SIGNATURES = {
         "way": "(net, start, goal)",
         "check_way": "(net, start, goal, answer)",
     },
+    rates: {
+        "gains": "(net, output)",
+        "spread": "(net, output)",
+        "rate_of": "(net, vector, output)",
+        "offset_of": "(net, phases, output)",
+        "carry_range": "(net, vector, output)",
+    },
+    forecasts: {
+        "forecast": "(net, phases, counter, output, *, count=1)",
+        "carry_ticks": "(net, phases, counter, output, *, last)",
+        "first_to_carry": "(net, phases, counter, *outputs)",
+        "arrival": "(net, start, goal, counter)",
+    },
+    ways: {
+        "cheapest_way": "(net, start, goal, *prices)",
+        "shells": "(net, phases)",
+        "radius": "(net)",
+    },
 }
 # What each function is called with in the tests below; all of them succeed.
 CALLS = (
@@ -85,6 +103,18 @@ CALLS = (
     (reaching.invariants, (A,), {}),
     (reaching.way, (A, (0, 0), (1, 3)), {}),
     (reaching.check_way, (A, (0, 0), (0, 1), ("invariant", ((0, 1), 3))), {}),
+    (rates.gains, (A, 1), {}),
+    (rates.spread, (A, 1), {}),
+    (rates.rate_of, (A, (10, 0), 1), {}),
+    (rates.offset_of, (A, (3, 5), 1), {}),
+    (rates.carry_range, (A, (10, 0), 1), {}),
+    (forecasts.forecast, (A, (3, 4), 0, 1), {"count": 1000}),
+    (forecasts.carry_ticks, (A, (3, 4), 0, 1), {"last": 1000}),
+    (forecasts.first_to_carry, (A, (3, 5), 0, 1, 0, 1), {}),
+    (forecasts.arrival, (A, (3, 5), (1, 2), 0), {}),
+    (ways.cheapest_way, (A, (3, 5), (1, 2), 1000), {}),
+    (ways.shells, (A, (3, 5)), {}),
+    (ways.radius, (A,), {}),
 )
 PACKAGE = pathlib.Path(carrynet.__file__).parent
 # Modules of the library that neither tell the time nor read or draw anything.
