@@ -20,9 +20,14 @@ def check_prices(net, prices):
             raise InvalidPrices(index)
 
 
-def steps_of(net):
-    """The vectors of all steps, forwards and backwards, in ascending order of the inputs."""
-    return [total_of_steps(net, ((counter, sign),)) for counter in net[2] for sign in (1, -1)]
+def equal_prices(net):
+    return (1,) * len(net[2])
+
+
+def steps_of(net, prices):
+    """The prices and the vectors of all steps, forwards and backwards."""
+    return [(price, total_of_steps(net, ((counter, sign),)))
+            for price, counter in zip(prices, net[2]) for sign in (1, -1)]
 
 
 def search(net, start, goal, prices):
@@ -31,8 +36,7 @@ def search(net, start, goal, prices):
     The cheapest ways are found in the order of their costs, those with the same cost in the order of tuples. So the
     first one that is found for a state is right: without its last unit, it is the cheapest way to another state.
     """
-    twice = [price for price in prices for _ in (1, -1)]
-    steps = list(zip(twice, steps_of(net)))
+    steps = steps_of(net, prices)
     queue = [(0, (0,) * len(start), start)]
     settled = set()
     while queue:
@@ -55,21 +59,21 @@ def cheapest_way(net, start, goal, *prices):
     validate_states(net, start, goal)
     check_prices(net, prices)
     check_reached(net)
-    return search(net, start, goal, prices or (1,) * len(net[2]))
+    return search(net, start, goal, prices or equal_prices(net))
 
 
 def shells(net, phases):
     """The states at the distances 0, 1, 2, .. from the phases."""
     validate_phases(net, phases)
     check_reached(net)
-    steps = steps_of(net)
+    steps = steps_of(net, equal_prices(net))
     seen = {phases}
     shell = [phases]
     while shell:
         yield tuple(sorted(shell))
         following = []
         for state in shell:
-            for step in steps:
+            for _, step in steps:
                 found = effect(net, state, step)[1]
                 if found not in seen:
                     seen.add(found)
@@ -80,5 +84,6 @@ def shells(net, phases):
 def radius(net):
     """The greatest distance of two states that reach each other."""
     validate_net(net)
-    found = list(shells(net, (0,) * len(net[0])))
+    zeros = (0,) * len(net[0])
+    found = list(shells(net, zeros))
     return len(found) - 1

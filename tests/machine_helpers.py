@@ -3,6 +3,7 @@
 import unittest
 
 from carrynet.machines import Odometer, Recorder
+from carrynet.meters import Meter
 from tests.helpers import told
 
 MOST = 10 ** 12
@@ -17,6 +18,8 @@ def face(machine):
         shown = (*shown, machine.history)
     if isinstance(machine, Odometer):
         shown = (*shown, machine.reading)
+    if isinstance(machine, Meter):
+        shown = (*shown, machine.output, machine.marks, machine.total)
     return shown
 
 

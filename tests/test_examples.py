@@ -176,6 +176,56 @@ raises NotAnInput(1)
 >>> from carrynet.ways import shells
 >>> list(shells(((4, 6), ((0, 1, 3),), (0,)), (0, 0)))
 [((0, 0),), ((1, 0), (3, 3)), ((2, 0), (2, 3)), ((1, 3), (3, 0)), ((0, 3),)]
+
+>>> from carrynet.drives import first_difference, joint_period, record_start
+>>> one = (((4, 6), ((0, 1, 3),), (0,)), (0, 0), (2, 0), 1)
+>>> other = (((4,), (), (0,)), (1,), (1,), 0)
+>>> (record_start(one, 5), record_start(other, 5), first_difference(one, other), joint_period(one, other))
+((0, 0, 0, 1, 0), (0, 0, 1, 0, 0), 3, 4)
+
+>>> from carrynet.drives import alike_groups
+>>> one = (((4, 6), ((0, 1, 3),), (0,)), (0, 0), (2, 0), 1)
+>>> alike_groups(one, (((4,), (), (0,)), (1,), (1,), 0), (((4,), (), (0,)), (0,), (1,), 0))
+((0, 2), (1,))
+
+>>> from carrynet.drives import trimmed
+>>> trimmed(((4, 6, 5), ((0, 1, 3), (0, 2, 1)), (0, 2)), 1)
+(((4, 6), ((0, 1, 3),), (0,)), (0, 1))
+
+>>> from carrynet.texts import fraction_text, net_text, numbers_text, parse_net
+>>> (net_text(((4, 6), ((0, 1, 3),), (0,))), numbers_text(3, -5), numbers_text(), fraction_text((1, 8)))
+('4 6 0>1:3 @0', '3 -5', 'none', '1/8')
+
+>>> from carrynet.texts import parse_net
+>>> parse_net('4 6 1>0:3 @0')
+raises InvalidText(3)
+
+>>> from carrynet.meters import Meter
+>>> meter = Meter(((4, 6), ((0, 1, 3),), (0,)), output=1)
+>>> first = meter.tick(0, times=10)
+>>> marks = meter.marks
+>>> done = meter.measure(0)
+>>> (first, marks, meter.marks, meter.total, meter.expected(0, 0))
+((2, 1), (1,), (), 2, (1, 2))
+
+>>> from carrynet.meters import LoggedMeter
+>>> meter = LoggedMeter(((4, 6), ((0, 1, 3),), (0,)), output=1, phases=(3, 5))
+>>> first = meter.tick(0)
+>>> second = meter.tick(0, times=7)
+>>> last = meter.undo()
+>>> (first, second, meter.marks, meter.history, meter.phases, meter.total)
+((1, 1), (1, 0), (1,), (((0,), 1),), (0, 2), 1)
+
+>>> from carrynet.session import Session
+>>> session = Session.from_text('4 6 0>1:3 @0')
+>>> answers = list(session.execute_all('output 1', 'tick 10 0', 'marks', 'rate 0', 'forecast 0 1', 'undo', 'show', 'way 1 3', 'tick 1 1'))
+>>> answers
+['done', '2 1', '1', '1/8', '6', 'done', '0 0', '-3 0', 'not an input']
+
+>>> from carrynet.session import Session
+>>> session = Session(((4, 6), ((0, 1, 3),), (0,)))
+>>> (session.attempt('tick 3 0', 'tick 1 1'), session.execute('show'), session.attempt('tick 3 0', 'show'))
+('not an input', '0 0', ('0 0', '3 0'))
 """
 
 
@@ -195,7 +245,7 @@ def run(example):
 class Examples(unittest.TestCase):
     def test_each_example(self):
         examples = EXAMPLES.strip().split("\n\n")
-        self.assertEqual(len(examples), 38)
+        self.assertEqual(len(examples), 47)
         for example in examples:
             with self.subTest(example):
                 result, wanted = run(example)

@@ -1,5 +1,6 @@
 """Forecasts: 9.1, 9.2, and the first outputs to carry."""
 
+import itertools
 import math
 import unittest
 from fractions import Fraction
@@ -34,14 +35,14 @@ def carries_after(net, state, counter, output, times):
 
 
 class SmallNets(unittest.TestCase):
-    def test_every_state_one_carry(self):
+    def test_every_state(self):
         known = []
         for net in map(positive, small_nets(1, 15, most=4)):
             for state in all_states(net):
-                for counter in range(len(net[0])):
-                    for output in range(len(net[0])):
-                        wanted = ticked(net, state, counter, output, 1)
-                        self.assertEqual(forecast(net, state, counter, output), wanted)
+                for counter, output in itertools.product(net[2], repeat=2):
+                    for count in (1, 2, 5) if gains(net, output)[counter] != (0, 1) else (1,):
+                        wanted = ticked(net, state, counter, output, count)
+                        self.assertEqual(forecast(net, state, counter, output, count=count), wanted)
                         known.append(wanted)
         self.assertIn(None, known)
         self.assertIn(1, known)

@@ -2,11 +2,13 @@
 
 import ast
 import inspect
+import itertools
 import pathlib
 import unittest
 
 import carrynet
-from carrynet import errors, events, forecasts, lattice, nets, rates, reaching, ticks, ways
+from carrynet import drives, errors, events, forecasts, lattice, machines, meters, nets, rates, reaching, session
+from carrynet import texts, ticks, ways
 from tests.helpers import A, not_integers
 
 SIGNATURES = {
@@ -69,7 +71,48 @@ SIGNATURES = {
         "shells": "(net, phases)",
         "radius": "(net)",
     },
+    drives: {
+        "validate_drive": "(value)",
+        "is_drive": "(value)",
+        "record": "(drive)",
+        "record_start": "(drive, count)",
+        "joint_period": "(*drives)",
+        "first_difference": "(one, other)",
+        "alike_groups": "(*drives)",
+        "relevant": "(net, output)",
+        "trimmed": "(net, output)",
+    },
+    texts: {
+        "numbers_text": "(*numbers)",
+        "fraction_text": "(fraction)",
+        "net_text": "(net)",
+        "parse_numbers": "(text)",
+        "parse_fraction": "(text)",
+        "parse_net": "(text)",
+    },
 }
+CONSTANTS = {
+    nets: {"MOST_COUNTERS": 10, "MOST_MODULUS": 1000, "MOST_WEIGHT": 100, "MOST_TICKS": 10 ** 40},
+    events: {"MOST_REACHED": 2000},
+    forecasts: {"MOST_CARRIES": 1000000},
+    drives: {"MOST_TURNS": 20000},
+}
+CLASSES = {
+    machines: {
+        "Machine": ("MOST_TIMES", "__init__", "begin_at", "carried", "common_divisor", "made", "net", "phases", "play",
+                    "rehearse", "tick"),
+        "Recorder": ("__init__", "history", "tick", "undo"),
+        "Odometer": ("__init__", "advance", "begin_reading", "reading"),
+    },
+    meters: {
+        "Meter": ("__init__", "expected", "made", "marks", "measure", "output", "play", "rehearse", "tick", "total"),
+        "LoggedMeter": ("__init__",),
+    },
+    session: {
+        "Session": ("__init__", "attempt", "execute", "execute_all", "from_text", "is_command", "meter"),
+    },
+}
+DRIVE = (A, (0, 0), (2, 0), 1)
 # What each function is called with in the tests below; all of them succeed.
 CALLS = (
     (nets.validate_net, (A,), {}),
@@ -115,6 +158,21 @@ CALLS = (
     (ways.cheapest_way, (A, (3, 5), (1, 2), 1000), {}),
     (ways.shells, (A, (3, 5)), {}),
     (ways.radius, (A,), {}),
+    (drives.validate_drive, (DRIVE,), {}),
+    (drives.is_drive, (DRIVE,), {}),
+    (drives.record, (DRIVE,), {}),
+    (drives.record_start, (DRIVE, 10), {}),
+    (drives.joint_period, (DRIVE, (A, (3, 5), (3, 0), 0)), {}),
+    (drives.first_difference, (DRIVE, (A, (3, 5), (3, 0), 0)), {}),
+    (drives.alike_groups, (DRIVE, (A, (3, 5), (3, 0), 0), DRIVE), {}),
+    (drives.relevant, (A, 1), {}),
+    (drives.trimmed, (A, 0), {}),
+    (texts.numbers_text, (3, -5), {}),
+    (texts.fraction_text, ((1, 8),), {}),
+    (texts.net_text, (A,), {}),
+    (texts.parse_numbers, ("3 -5",), {}),
+    (texts.parse_fraction, ("1/8",), {}),
+    (texts.parse_net, ("4 6 0>1:3 @0",), {}),
 )
 PACKAGE = pathlib.Path(carrynet.__file__).parent
 # Modules of the library that neither tell the time nor read or draw anything.
@@ -136,9 +194,9 @@ def as_written(value):
 
 
 def result_of(function, arguments, named):
-    """What the call returns, or all that it yields."""
+    """What the call returns, or all that it yields; a record has no end."""
     result = function(*arguments, **named)
-    return tuple(result) if inspect.isgenerator(result) else result
+    return tuple(itertools.islice(result, 1000)) if inspect.isgenerator(result) else result
 
 
 class Interface(unittest.TestCase):
@@ -151,6 +209,26 @@ class Interface(unittest.TestCase):
         for module, functions in SIGNATURES.items():
             for name in functions:
                 self.assertEqual(getattr(module, name).__module__, module.__name__, name)
+
+    def test_constants(self):
+        for module, constants in CONSTANTS.items():
+            for name, value in constants.items():
+                self.assertEqual((getattr(module, name), type(getattr(module, name))), (value, int), name)
+
+    def test_each_class_and_its_methods_are_defined_in_their_places(self):
+        for module, classes in CLASSES.items():
+            for name, members in classes.items():
+                kind = getattr(module, name)
+                self.assertEqual((kind.__name__, kind.__module__), (name, module.__name__))
+                for member in members:
+                    self.assertIn(member, vars(kind), name)
+
+    def test_all_parameters_by_name(self):
+        for function, arguments, named in CALLS:
+            parameters = inspect.signature(function).parameters.values()
+            if all(parameter.kind is not parameter.VAR_POSITIONAL for parameter in parameters):
+                by_name = {**dict(zip([parameter.name for parameter in parameters], arguments)), **named}
+                self.assertEqual(result_of(function, (), by_name), result_of(function, arguments, named), function)
 
     def test_each_function_is_called_below(self):
         called = [function.__name__ for function, _, _ in CALLS]
